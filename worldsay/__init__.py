@@ -1,0 +1,1 @@
+"""Worldsay: who knows what, when, and papers that show it."""
