@@ -194,3 +194,198 @@ def slow_partition(parts, many):
         return False
     return (all(sum(part.count(point) for part in parts) == 1 for point in range(many))
             and sorted(parts) == list(parts))
+
+
+def slow_seen(world, room, hand, one, other):
+    """Whether a hand can't tell two points apart, in a room of pairs (hands, points where the s holds)."""
+    parts = dict(world[2]).get(hand, tuple((point,) for point in range(len(world[1]))))
+    if not any(one in part and other in part for part in parts):
+        return False
+    return all((one in cutting) == (other in cutting) for hands, cutting in room if hand in hands)
+
+
+def slow_led(world, room, step, point):
+    """The points to which a step leads, in a room."""
+    points = range(len(world[1]))
+    if step[0] == "on":
+        return {other for other in points if other in world[1][point]}
+    if step[0] == "back":
+        return {other for other in points if point in world[1][other]}
+    many = any if step[0] == "one" else all
+    return {other for other in points if many(slow_seen(world, room, hand, point, other) for hand in step[1])}
+
+
+def slow_holds(world, sentence, room=(), wishes=None, sets=None):
+    """The set of points where a sentence holds, by the document's words; sets: all sets that may be the ones
+    of a binder, else it is come to step by step."""
+    wishes = wishes or {}
+    points = frozenset(range(len(world[1])))
+    head = sentence[0]
+
+    def inner(part, more=(), wished=wishes):
+        return slow_holds(world, part, room + more, wished, sets)
+    if head == "fact":
+        return frozenset(dict(world[0]).get(sentence[1], ()))
+    if head == "wish":
+        return wishes[sentence[1]]
+    if head == "not":
+        return points - inner(sentence[1])
+    if head == "and":
+        return inner(sentence[1]) & inner(sentence[2])
+    if head == "or":
+        return inner(sentence[1]) | inner(sentence[2])
+    if head in ("some", "every"):
+        held, many = inner(sentence[2]), any if head == "some" else all
+        return frozenset(point for point in points
+                         if many(other in held for other in slow_led(world, room, sentence[1], point)))
+    if head == "show":
+        return inner(sentence[3], ((sentence[1], inner(sentence[2])),))
+    if sets is not None:
+        fixed = [one for one in sets if inner(sentence[2], (), {**wishes, sentence[1]: one}) == one]
+        return min(fixed, key=len) if head == "least" else max(fixed, key=len)
+    found, wished = None, frozenset() if head == "least" else points
+    while found != wished:
+        wished = wished if found is None else found
+        found = inner(sentence[2], (), {**wishes, sentence[1]: wished})
+    return found
+
+
+def all_sets(many):
+    """All sets of so many points."""
+    return [frozenset(point for point in range(many) if mask >> point & 1) for mask in range(2 ** many)]
+
+
+def spoiled_words(chance, text, news):
+    """A text with one word put in, out, doubled, exchanged, or the text cut short."""
+    words = text.split(" ")
+    place = chance.randrange(len(words))
+    way = chance.randrange(7)
+    if way == 0:
+        words.insert(place, chance.choice(news))
+    elif way == 1:
+        words.pop(place)
+    elif way == 2:
+        words.insert(place, words[place])
+    elif way == 3:
+        other = chance.randrange(len(words))
+        words[place], words[other] = words[other], words[place]
+    elif way == 4:
+        words[place] = chance.choice(news)
+    elif way == 5:
+        words = words[:place]
+    else:
+        words.insert(chance.choice((0, place, len(words))), "")
+    return " ".join(words)
+
+
+SENTENCE_FORMS = {"fact": "n", "wish": "w", "not": "s", "and": "ss", "or": "ss", "some": "ts", "every": "ts",
+                  "least": "bs", "most": "bs", "show": "hss"}
+PLAIN_FORMS = {"fact": "n", "not": "s", "and": "ss", "or": "ss", "knows": "ns", "may": "ns", "whether": "ns",
+               "all": "hs", "common": "hs", "pool": "hs", "tell": "hss", "told": "hss", "then": "s", "must": "s",
+               "before": "s", "sometime": "s", "always": "s", "surely": "s", "spared": "s", "until": "ss",
+               "till": "ss", "once": "s", "ever": "s", "since": "ss"}
+
+
+def slow_reading(text, forms, most):
+    """The number of the first word that can't stand there, None where the text writes a sentence: what is
+    awaited is kept as a list of (sort, around), around the words of the heads and names round it."""
+    awaited, many = [("s", ())], 0
+    words = text.split(" ")
+    for number, word in enumerate(words):
+        if not awaited:
+            return number
+        sort, around = awaited.pop()
+        if sort == "s":
+            many += 1
+            heads = [entry[0] for entry in around]
+            if word not in forms or many > most:
+                return number
+            if word in BINDERS and heads.count("least") + heads.count("most") > 3:
+                return number
+            if word == "show" and heads.count("show") > 2:
+                return number
+            # The head's entry gets its name later, where it has one.
+            entry = [word, None]
+            for wanted in reversed(forms[word]):
+                awaited.append((wanted, around + (entry,)))
+        elif sort == "t":
+            if word not in ("on", "back", "one", "pool"):
+                return number
+            if word in ("one", "pool"):
+                awaited.append(("h", around))
+        elif sort == "h":
+            if not slow_hands(tuple(word.split(","))):
+                return number
+        else:
+            outer = [(entry[0], entry[1]) for entry in around[:-1]]
+            if not slow_name(word):
+                return number
+            if sort == "b" and word in [name for head, name in outer if head in BINDERS]:
+                return number
+            if sort == "w" and not slow_may_stand(("wish", word), outer):
+                return number
+            around[-1][1] = word
+    return len(words) if awaited else None
+
+
+def random_plain(chance, size):
+    """A plain sentence of at most so many things."""
+    heads = [head for head, sorts in PLAIN_FORMS.items() if sorts.count("s") == 1 and size > 1]
+    heads += [head for head, sorts in PLAIN_FORMS.items() if sorts.count("s") == 2 and size > 2]
+    head = chance.choice(heads) if heads else "fact"
+    if head == "fact":
+        return (head, chance.choice("abc"))
+    taken = {"n": (chance.choice(("ann", "bob", "cid")),), "h": (chance.choice(HANDS),)}.get(PLAIN_FORMS[head][0], ())
+    if PLAIN_FORMS[head].count("s") == 1:
+        return (head,) + taken + (random_plain(chance, size - 1),)
+    first = chance.randint(1, size - 2)
+    return (head,) + taken + (random_plain(chance, first), random_plain(chance, size - 1 - first))
+
+
+# The core of each word, as the document tells it: H what it takes, S and T its parts, X its binder's name.
+CORES = {
+    "not": "not S", "and": "and S T", "or": "or S T",
+    "knows": "every one H S", "may": "some one H S", "whether": "or every one H S every one H not S",
+    "all": "every one H S", "common": "most X and S every one H wish X", "pool": "every pool H S",
+    "tell": "and S show H S T", "told": "or not S show H S T",
+    "then": "some on S", "must": "every on S", "before": "some back S",
+    "sometime": "least X or S some on wish X", "always": "most X and S every on wish X",
+    "surely": "least X or S and some on wish X every on wish X",
+    "spared": "most X and S or every on wish X some on wish X",
+    "until": "least X or T and S some on wish X",
+    "till": "least X or T and S and some on wish X every on wish X",
+    "once": "least X or S some back wish X", "ever": "most X and S every back wish X",
+    "since": "least X or T and S some back wish X",
+}
+
+
+def slow_core(plain, around=0):
+    """The text of a plain sentence's core, which stands within so many binders; None of a fifth one."""
+    if plain[0] == "fact":
+        return "fact " + plain[1]
+    core = CORES[plain[0]]
+    name, taken = None, plain[1]
+    if "X" in core:
+        if around == 4:
+            return None
+        name, around = "abcd"[around], around + 1
+    parts = [slow_core(part, around) for part in plain[1:] if isinstance(part, tuple) and isinstance(part[-1], (str, tuple))
+             and part[0] in PLAIN_FORMS and not slow_hands(part)]
+    if None in parts:
+        return None
+    words = {"X": name, "H": ",".join(taken) if slow_hands(taken) else taken, "S": parts[0], "T": parts[-1]}
+    return " ".join(words.get(word, word) for word in core.split(" "))
+
+
+def ways_of(world, point, back=False):
+    """All ways from a point, each followed till it ends or comes to a point again."""
+    moves = [[other for other in range(len(world[1])) if start in world[1][other]] if back else world[1][start]
+             for start in range(len(world[1]))]
+    ended, going = [], [(point,)]
+    while going:
+        way = going.pop()
+        if way[-1] in way[:-1] or not moves[way[-1]]:
+            ended.append(way)
+        else:
+            going.extend(way + (other,) for other in moves[way[-1]])
+    return ended

@@ -59,22 +59,46 @@ def rooms_at(sentence):
     return told
 
 
+class Frame:
+    """A sentence's things with all that is asked of them again and again."""
+
+    def __init__(self, sentence):
+        self.things = things_of(sentence)
+        self.parts = parts_at(sentence)
+        self.binders = binders_at(sentence)
+        self.rooms = rooms_at(sentence)
+        self.nots = nots_at(self.things, self.parts)
+
+    def binder_wished(self, number):
+        """The binder that the wish of this number stands for."""
+        name = self.things[number][1]
+        return [binder for binder in self.binders[number] if self.things[binder][1] == name][0]
+
+    def hard_binders(self, number, truth):
+        """For each binder round a thing whether it is hard for a claim of this truth."""
+        return tuple([self.is_hard(binder, number, truth) for binder in self.binders[number]])
+
+    def is_hard(self, binder, number, truth):
+        """Whether a binder round a thing is hard for a claim of this truth."""
+        turned = (self.nots[number] - self.nots[binder]) % 2 == 1
+        return (self.things[binder][0] == "least") == (truth != turned)
+
+
+def nots_at(things, parts):
+    """For each thing how many nots have it within them."""
+    told = [0] * len(things)
+    for number, thing in enumerate(things):
+        for part in parts[number]:
+            told[part] = told[number] + 1 if thing[0] == "not" else told[number]
+    return told
+
+
 def binder_of(sentence, number):
     """The number of the binder that the wish of this number stands for."""
-    things = things_of(sentence)
-    name = things[number][1]
-    return max([binder for binder in binders_at(sentence)[number] if things[binder][1] == name])
+    return Frame(sentence).binder_wished(number)
 
 
 def sign_at(sentence, binder, number, truth):
     """A truth at a thing, turned about once for each not between it and a binder round it."""
-    things = things_of(sentence)
-    parts = parts_at(sentence)
-    sign = truth
-    place = binder
-    while place != number:
-        if things[place][0] == "not":
-            sign = not sign
-        # Numbers go on from part to part: the last part that isn't behind the thing has it.
-        place = max([part for part in parts[place] if part <= number])
-    return sign
+    nots = nots_at(things_of(sentence), parts_at(sentence))
+    return truth if (nots[number] - nots[binder]) % 2 == 0 else not truth

@@ -58,12 +58,20 @@ def is_sentence(thing):
 
 def is_formed(thing):
     """Whether a plain thing is like a sentence, whatever stands where its parts should."""
+    head = head_of(thing)
+    return head in FORMS and has_form(thing, FORMS[head])
+
+
+def head_of(thing):
+    """The head of a plain thing that may be like a sentence, else no sign."""
     if not isinstance(thing, tuple) or len(thing) == 0:
-        return False
+        return ""
     # A list or a dict can't be looked for among the heads.
-    if not isinstance(thing[0], str) or thing[0] not in FORMS:
-        return False
-    form = FORMS[thing[0]]
+    return thing[0] if isinstance(thing[0], str) else ""
+
+
+def has_form(thing, form):
+    """Whether behind its head a tuple has what a form tells, whatever stands where its parts should."""
     if form[0] == "":
         return len(thing) == 1 + form[1]
     return len(thing) == 2 + form[1] and is_taken(thing[1], form[0])
@@ -90,12 +98,24 @@ def is_binder(sentence):
 
 def may_stand(sentence, around):
     """Whether a sentence's head may stand within these things, outermost first."""
-    if sentence[0] == "wish":
-        return may_wish(sentence[1], around)
-    if is_binder(sentence):
-        return may_bind(sentence[1], around)
-    if sentence[0] == "show":
-        return may_show(around)
+    return may_begin(sentence[0], around) and may_take(sentence[0], sentence[1], around)
+
+
+def may_begin(head, around):
+    """Whether a sentence of this head, whatever it takes, may begin within these things."""
+    if head in ("least", "most"):
+        return len(names_bound(around)) < MOST_BINDERS
+    if head == "show":
+        return len([thing for thing in around if thing[0] == "show"]) < MOST_SHOWS
+    return True
+
+
+def may_take(head, taken, around):
+    """Whether what a head takes, if it is a name, may stand behind it within these things."""
+    if head == "wish":
+        return may_wish(taken, around)
+    if head in ("least", "most"):
+        return taken not in names_bound(around)
     return True
 
 
@@ -112,12 +132,6 @@ def may_wish(name, around):
     return False
 
 
-def may_bind(name, around):
-    """Whether a binder of this name may stand within these things."""
-    names = [thing[1] for thing in around if is_binder(thing)]
-    return len(names) < MOST_BINDERS and name not in names
-
-
-def may_show(around):
-    """Whether a show may stand within these things."""
-    return len([thing for thing in around if thing[0] == "show"]) < MOST_SHOWS
+def names_bound(around):
+    """The names of the binders among these things."""
+    return [thing[1] for thing in around if is_binder(thing)]

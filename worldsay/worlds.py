@@ -107,3 +107,49 @@ def in_each(parts):
     for part in parts:
         points = tuple([point for point in points if point in part])
     return points
+
+
+class Ground:
+    """A world made ready to be asked often."""
+
+    def __init__(self, world):
+        self.world = world
+        self.many = len(world[1])
+        self.marks = {}
+        for pair in world[2]:
+            self.marks[pair[0]] = marks_of(pair[1], self.many)
+        self.facts = dict(world[0])
+        self.steps = {}
+
+    def has_fact(self, name, point):
+        """Whether a fact holds at a point."""
+        return point in self.facts.get(name, ())
+
+    def leads(self, step, point):
+        """The points to which a step leads from a point, by the world alone."""
+        if step not in self.steps:
+            self.steps[step] = [led(self.world, step, start) for start in range(self.many)]
+        return self.steps[step][point]
+
+    def are_joined(self, hand, one, other):
+        """Whether a hand can't tell two points apart, by the world alone."""
+        if hand not in self.marks:
+            return one == other
+        return self.marks[hand][one] == self.marks[hand][other]
+
+
+def marks_of(parts, many):
+    """For each of so many points the number of the part in which it stands."""
+    marks = [0] * many
+    for number, part in enumerate(parts):
+        for point in part:
+            marks[point] = number
+    return marks
+
+
+def parts_by(marks):
+    """The parts of points that have the same mark, sorted."""
+    parts = {}
+    for point, mark in enumerate(marks):
+        parts.setdefault(mark, []).append(point)
+    return tuple(sorted([tuple(part) for part in parts.values()]))
