@@ -3,7 +3,8 @@
 from copy import deepcopy
 
 BINDERS = ("least", "most")
-STEPS = (("on",), ("back",), ("one", ("ann",)), ("one", ("ann", "bob")), ("pool", ("ann", "bob", "cid", "dan")))
+STEPS = (("on",), ("back",), ("one", ("ann",)), ("one", ("bob",)), ("one", ("ann", "bob")), ("one", ("bob", "cid")),
+         ("pool", ("ann", "bob")), ("pool", ("ann",)), ("pool", ("ann", "bob", "cid", "dan")))
 HANDS = (("ann",), ("bob", "cid"), ("ann", "bob", "cid", "dan"))
 
 # Plain things that are neither name, hands, step, sentence, world nor a part of one.
@@ -65,6 +66,20 @@ def random_sentence(chance, size, bound=(), shows=0):
         bound, shows = tuple((name, None) for name, even in bound), shows + 1
     parts = (random_sentence(chance, first, bound, shows), random_sentence(chance, size - 1 - first, bound, shows))
     return (head, chance.choice(HANDS)) + parts if head == "show" else (head,) + parts
+
+
+def roomy_sentence(chance, size):
+    """A sentence of steps within one to three shows, of somewhat more things than so many."""
+    shows = chance.randint(1, 3)
+    inner = random_sentence(chance, size, (), shows)
+    for count in range(chance.randint(1, 3)):
+        step = chance.choice(STEPS[2:8])
+        inner = (chance.choice(("some", "every")), step, inner)
+        if chance.random() < 0.5:
+            inner = (chance.choice(("and", "or")), inner, random_sentence(chance, 2, (), shows))
+    for count in range(shows):
+        inner = ("show", chance.choice(HANDS), random_sentence(chance, chance.randint(1, 3), (), 3), inner)
+    return inner
 
 
 def loose_sentence(chance, size):
