@@ -404,3 +404,40 @@ def ways_of(world, point, back=False):
         else:
             going.extend(way + (other,) for other in moves[way[-1]])
     return ended
+
+
+def winding_world(chance, many):
+    """A world in which one goes far: few moves, few facts."""
+    moves = []
+    for point in range(many):
+        led = {(point + 1) % many} if chance.random() < 0.9 else set()
+        if chance.random() < 0.4:
+            led.add(chance.randrange(many))
+        moves.append(tuple(sorted(led)))
+    facts = tuple((name, tuple(sorted(chance.sample(range(many), chance.randint(1, 1 + many // 3))))) for name in "ab")
+    sights = tuple((hand, random_parts(chance, many)) for hand in ("ann", "bob"))
+    return (facts, tuple(moves), sights)
+
+
+def winding_sentence(chance):
+    """One to four binders round one another, whose wishes are come to by steps."""
+    names = "pqrs"[:chance.randint(1, 4)]
+    body = winding_body(chance, names, chance.randint(2, 5))
+    for name in reversed(names):
+        body = (chance.choice(BINDERS), name, body)
+        if chance.random() < 0.3:
+            body = (chance.choice(("and", "or")), ("fact", chance.choice("ab")), body)
+    return body
+
+
+def winding_body(chance, names, size):
+    if size > 1:
+        first = chance.randint(1, size - 1)
+        return (chance.choice(("and", "or", "or")), winding_body(chance, names, first), winding_body(chance, names, size - first))
+    leaf = chance.choice([("fact", name) for name in "ab"] + [("wish", name) for name in names] * 2)
+    if leaf[0] == "wish":
+        step = chance.choice((("on",), ("on",), ("on",), ("back",), ("one", ("ann",))))
+        leaf = (chance.choice(("some", "every")), step, leaf)
+        if chance.random() < 0.3:
+            leaf = ("not", (chance.choice(("and", "or")), ("fact", "b"), ("not", leaf)))
+    return leaf

@@ -155,19 +155,45 @@ class Slow:
                 told.append((choice, leaned))
         return told
 
-    def ranks(self):
-        """The least ranks of all right claims, raised round by round as the document tells."""
+    def all_options(self):
+        """For each right claim its options."""
         claims = {claim: True for claim in self.right_claims()}
-        options = {claim: self.options(claims, claim) for claim in claims}
-        ranks = {claim: (0,) * len(self.binders[claim[0]]) for claim in claims}
+        return {claim: self.options(claims, claim) for claim in claims}
+
+    def ranks(self, options=None):
+        """The least ranks of all right claims, raised round by round as the document tells; None where these
+        options, fewer than there are, let a claim have none."""
+        options = options or self.all_options()
+        ranks = {claim: (0,) * len(self.binders[claim[0]]) for claim in options}
         changed = True
         while changed:
             changed = False
-            for claim in claims:
+            for claim in ranks:
                 least = min(self.let_have(claim, leaned, ranks) for choice, leaned in options[claim])
                 if least > ranks[claim]:
                     ranks[claim], changed = least, True
+                    if max(least) == 10 ** 9:
+                        return None
         return ranks
+
+    def other_paper(self, chance):
+        """A paper of all right claims as another one may write it: with other choices, where they do, and ranks."""
+        options = self.all_options()
+        for tries in range(20):
+            some = {claim: [chance.choice(pairs)] if chance.random() < 0.8 or tries < 10 else pairs
+                    for claim, pairs in options.items()}
+            ranks = self.ranks(some)
+            if ranks is not None:
+                break
+        else:
+            some, ranks = options, self.ranks(options)
+        rows = []
+        for claim in ranks:
+            choice = min(some[claim], key=lambda option: self.let_have(claim, option[1], ranks))[0]
+            rows.append(claim + (ranks[claim], choice))
+        rows = list(greater_ranks(self, rows, chance.choice((1, 1, 3, 1000)), chance.choice((0, 0, 5, 10 ** 6))))
+        chance.shuffle(rows)
+        return tuple(rows)
 
     def let_have(self, claim, leaned, ranks):
         """The least ranks that what a row leans on lets it have; a great one where none."""
