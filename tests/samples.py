@@ -441,3 +441,25 @@ def winding_body(chance, names, size):
         if chance.random() < 0.3:
             leaf = ("not", (chance.choice(("and", "or")), ("fact", "b"), ("not", leaf)))
     return leaf
+
+
+def doubled_world(chance, many):
+    """A world with some of its points doubled, so that alike ones are there, and shuffled."""
+    world = winding_world(chance, many)
+    origin = list(range(many)) + [chance.randrange(many) for more in range(chance.randint(1, many))]
+    chance.shuffle(origin)
+    points = range(len(origin))
+    facts = tuple((name, tuple(p for p in points if origin[p] in held)) for name, held in world[0])
+    moves = tuple(tuple(q for q in points if origin[q] in world[1][origin[p]]) for p in points)
+    sights = []
+    for hand, parts in world[2]:
+        told = [tuple(p for p in points if origin[p] in part) for part in parts]
+        sights.append((hand, tuple(sorted(told))))
+    return (facts, moves, tuple(sights))
+
+
+def without_pool(thing):
+    """A sentence with a one in the place of each pool."""
+    if thing and thing[0] == "pool":
+        return ("one",) + thing[1:]
+    return tuple(without_pool(part) if isinstance(part, tuple) else part for part in thing)

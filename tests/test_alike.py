@@ -4,7 +4,8 @@ import random
 import unittest
 from copy import deepcopy
 
-from samples import JUNK, random_parts, random_sentence, random_world, slow_led, slow_partition, winding_world
+from samples import (JUNK, doubled_world, random_parts, random_sentence, random_world, slow_led, slow_partition,
+                     winding_world, without_pool)
 from worldsay.alike import classes, lets_classes
 from worldsay.judging import holds
 
@@ -34,21 +35,6 @@ def all_parts(points):
         told.append(parts + ((points[-1],),))
         told += [parts[:place] + (part + (points[-1],),) + parts[place + 1:] for place, part in enumerate(parts)]
     return told
-
-
-def doubled_world(chance, many):
-    """A world with some of its points doubled, so that alike ones are there, and shuffled."""
-    world = winding_world(chance, many)
-    origin = list(range(many)) + [chance.randrange(many) for more in range(chance.randint(1, many))]
-    chance.shuffle(origin)
-    points = range(len(origin))
-    facts = tuple((name, tuple(p for p in points if origin[p] in held)) for name, held in world[0])
-    moves = tuple(tuple(q for q in points if origin[q] in world[1][origin[p]]) for p in points)
-    sights = []
-    for hand, parts in world[2]:
-        told = [tuple(p for p in points if origin[p] in part) for part in parts]
-        sights.append((hand, tuple(sorted(told))))
-    return (facts, moves, tuple(sights))
 
 
 class ClassesTest(unittest.TestCase):
@@ -99,15 +85,10 @@ class ClassesTest(unittest.TestCase):
             self.assertTrue(lets_classes(world, told))
             self.assertLess(len(told), len(world[1]))
             for times in range(5):
-                sentence = self.without_pool(random_sentence(chance, 20))
+                sentence = without_pool(random_sentence(chance, 20))
                 held = set(holds(world, sentence))
                 for part in told:
                     self.assertIn(len(held & set(part)), (0, len(part)))
-
-    def without_pool(self, thing):
-        if thing and thing[0] == "pool":
-            return ("one",) + thing[1:]
-        return tuple(self.without_pool(part) if isinstance(part, tuple) else part for part in thing)
 
     def test_things_that_are_no_closed_parts(self):
         world = ((("a", (1,)),), ((1,), (), (3,), ()), (("ann", ((0, 1, 2, 3),)),))

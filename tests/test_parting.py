@@ -3,8 +3,7 @@
 import random
 import unittest
 
-from samples import random_world, slow_holds, winding_world
-from test_alike import doubled_world
+from samples import doubled_world, random_world, slow_holds, winding_world
 from worldsay.alike import classes
 from worldsay.judging import holds
 from worldsay.nodes import things_of
