@@ -10,7 +10,6 @@ from worldsay.checking import fault_of, lets
 
 A, B = ("fact", "a"), ("fact", "b")
 X, Y = ("wish", "x"), ("wish", "y")
-ANN = ("ann",)
 # 0 -> 1 -> 2, a at 2.
 WORLD = ((("a", (2,)),), ((1,), (2,), ()), (("ann", ((0, 1), (2,))),))
 # 0 least, 1 or, 2 a, 3 some, 4 wish

@@ -11,7 +11,6 @@ from worldsay.judging import holds
 from worldsay.small import alike_points, beside, small
 from worldsay.worlds import is_world
 
-A = ("fact", "a")
 
 
 class SmallTest(unittest.TestCase):
