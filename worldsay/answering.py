@@ -33,7 +33,7 @@ def row_of(ranking, claim, kept):
 
 def come_to(ranking, row):
     """The right claims that a row leans on, and those that show what its step leads to in its room."""
-    claims = [option[1] for option in ranking.options[row[:3]] if option[0] == row[4]][0]
+    claims = [option[1] for option in ranking.options_of(row[:3]) if option[0] == row[4]][0]
     return claims + shown_beside(ranking, row)
 
 

@@ -1,13 +1,13 @@
 """Ranks: the least ones that can be laid for all right claims of a sentence over a world."""
 
-from worldsay.judging import Judge
+from worldsay.judging import Judge, meeting
 from worldsay.nodes import Frame
 from worldsay.worlds import Ground
 
 
 def ranked(world, sentence):
     """The least ranks of each right claim."""
-    return dict(Ranking(Ground(world), Frame(sentence)).ranks)
+    return Ranking(Ground(world), Frame(sentence)).ranks
 
 
 class Ranking:
@@ -18,13 +18,9 @@ class Ranking:
         self.frame = frame
         self.judge = Judge(ground, frame)
         self.ranks = {}
-        for number in range(len(frame.things)):
-            for point in range(ground.many):
-                self.ranks[self.right_claim(number, point)] = (0,) * len(frame.binders[number])
-        self.options = {}
-        for claim in self.ranks:
-            self.options[claim] = self.options_of(claim)
-        self.raise_all()
+        # What is claimed of a sentence leans on claims of its sign alone: the two are laid each by itself.
+        for sign in (True, False):
+            self.ranks.update(Staging(self.judge, sign).ranks)
 
     def right_claim(self, number, point):
         """The claim of a thing at a point that is right."""
@@ -60,62 +56,112 @@ class Ranking:
         chosen = 0 if self.frame.things[claim[0]][0] in ("and", "or") else 1
         return [(other[chosen], [other]) for other in claims if other[2] == claim[2]]
 
-    def raise_all(self):
-        """Raises ranks, from noughts on, till none is raised."""
-        leaning = self.claims_leaning()
-        # At noughts all is as told but the wishes that have to fall.
-        waiting = [claim for claim in self.ranks if self.has_to_fall(claim)]
-        while waiting:
-            behind = {}
-            for claim in waiting:
-                least = self.least_let(claim)
-                if least > self.ranks[claim]:
-                    self.ranks[claim] = least
-                    for other in leaning.get(claim, ()):
-                        behind[other] = True
-            waiting = list(behind)
-
-    def claims_leaning(self):
-        """For each claim those, with binders that are hard for them, that may lean on it."""
-        leaning = {}
-        for claim in self.ranks:
-            if any(self.frame.hard_binders(claim[0], claim[2])):
-                for option in self.options[claim]:
-                    for other in option[1]:
-                        leaning.setdefault(other, []).append(claim)
-        return leaning
-
-    def has_to_fall(self, claim):
-        """Whether a claim is one of a wish whose binder is hard for it."""
-        if self.frame.things[claim[0]][0] != "wish":
-            return False
-        return self.frame.is_hard(self.frame.binder_wished(claim[0]), claim[0], claim[2])
-
-    def least_let(self, claim):
-        """The least ranks that what it may lean on lets a claim have."""
-        let = [self.ranks_let(claim, option[1]) for option in self.options[claim]]
-        return min([ranks for ranks in let if ranks is not None])
-
-    def ranks_let(self, claim, leaned):
-        """The least ranks that these claims let one have that leans on them; None where they let it have none."""
-        many = len(self.ranks[claim])
-        if self.frame.things[claim[0]][0] != "wish":
-            return max([self.ranks[other][:many] for other in leaned], default=(0,) * many)
-        ranks = self.ranks[leaned[0]]
-        if self.has_to_fall(claim):
-            ranks = raised(ranks, self.frame.hard_binders(claim[0], claim[2]), self.ground.many)
-        return None if ranks is None else ranks + (0,) * (many - len(ranks))
-
     def best_option(self, claim):
         """An option by which a claim has its least ranks."""
-        return [option for option in self.options[claim] if self.ranks_let(claim, option[1]) == self.ranks[claim]][0]
+        options = self.options_of(claim)
+        if len(options) == 1:
+            return options[0]
+        # Where there are several, each leans on one claim.
+        many = len(self.ranks[claim])
+        return min(options, key=lambda option: self.ranks[option[1][0]][:many])
 
 
-def raised(ranks, hard, most):
-    """The least ranks greater than these, with noughts where not hard and none beyond the most; None where none are."""
-    place = len(ranks) - 1
-    while place >= 0:
-        if hard[place] and ranks[place] < most:
-            return ranks[:place] + (ranks[place] + 1,) + (0,) * (len(ranks) - place - 1)
-        place = place - 1
-    return None
+class Staging:
+    """The right claims of one sign, come to stage by stage; a claim's ranks are the stages at which it comes.
+
+    A hard binder's wishes hold, at each of its stages, where what stands within it came at one ahead, by the
+    stages of the binders round it first; the sets of the other binders are the greatest at that stage.
+    """
+
+    def __init__(self, judge, sign):
+        self.judge = judge
+        self.frame = judge.frame
+        self.sign = sign
+        self.ranks = {}
+        self.come = [0] * len(self.frame.things)
+        self.whole = [False] * len(self.frame.things)
+        self.ahead = {}
+        self.wished = {}
+        self.stages = {}
+        self.stage_thing(0, True)
+
+    def truth_at(self, number):
+        """The truth that claims of a thing have."""
+        return self.sign == (self.frame.nots[number] % 2 == 0)
+
+    def right_mask(self, number):
+        """The mask of the points at which the claims of a thing are right."""
+        mask = self.judge.found[number]
+        return mask if self.truth_at(number) else self.judge.every_point ^ mask
+
+    def stage_thing(self, number, laying):
+        """The mask of the points at which claims of a thing come by the stages as they are; ranks are laid, or not."""
+        # What has come stays, and no more comes than is right.
+        if self.whole[number]:
+            return self.right_mask(number)
+        mask = self.mask_of_thing(number, laying)
+        if laying:
+            self.lay_ranks(number, mask)
+            parts = [self.whole[part] for part in self.frame.parts[number]]
+            self.whole[number] = mask == self.right_mask(number) and all(parts)
+        return mask
+
+    def lay_ranks(self, number, mask):
+        """Lays the ranks of the claims of a thing that come now."""
+        ranks = tuple([self.stages[binder] for binder in self.frame.binders[number]])
+        truth = self.truth_at(number)
+        fresh = mask & ~self.come[number]
+        for point in range(fresh.bit_length()):
+            if (fresh >> point) & 1:
+                self.ranks[(number, point, truth)] = ranks
+        self.come[number] = mask
+
+    def mask_of_thing(self, number, laying):
+        """The mask of a thing by those of its parts."""
+        thing = self.frame.things[number]
+        parts = self.frame.parts[number]
+        if thing[0] == "fact":
+            return self.right_mask(number)
+        if thing[0] == "wish":
+            return self.wished[self.frame.binder_wished(number)]
+        if thing[0] in ("least", "most"):
+            if self.frame.is_hard(number, parts[0], self.truth_at(parts[0])):
+                return self.stage_hard(number, laying)
+            return self.stage_other(number, laying)
+        masks = [self.stage_thing(part, laying) for part in parts]
+        if thing[0] in ("not", "show"):
+            return masks[-1]
+        is_all = self.truth_at(number) == (thing[0] in ("and", "every"))
+        if thing[0] in ("and", "or"):
+            return masks[0] & masks[1] if is_all else masks[0] | masks[1]
+        leads = self.judge.leads_in_room(number, thing[1])
+        if is_all:
+            every_point = self.judge.every_point
+            return every_point ^ meeting(leads, every_point ^ masks[0])
+        return meeting(leads, masks[0])
+
+    def stage_hard(self, number, laying):
+        """The mask of a binder that is hard: stages go on till nothing comes any more."""
+        part = self.frame.parts[number][0]
+        self.stages[number] = 0
+        self.wished[number] = self.ahead.get(number, 0)
+        mask = self.stage_thing(part, laying)
+        while mask != self.wished[number]:
+            self.stages[number] = self.stages[number] + 1
+            self.wished[number] = mask
+            mask = self.stage_thing(part, laying)
+        # At a later stage of a binder round it all this came ahead, whatever its own stages were.
+        if laying:
+            self.ahead[number] = mask
+        return mask
+
+    def stage_other(self, number, laying):
+        """The mask of a binder that is not hard: the greatest set, looked for ahead of laying."""
+        part = self.frame.parts[number][0]
+        self.stages[number] = 0
+        self.wished[number] = self.right_mask(part)
+        mask = self.stage_thing(part, False)
+        while mask != self.wished[number]:
+            self.wished[number] = mask
+            mask = self.stage_thing(part, False)
+        return self.stage_thing(part, True) if laying else mask

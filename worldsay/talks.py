@@ -10,16 +10,17 @@ def talked(world, sentence, point, truth, paper, picks):
     frame = Frame(sentence)
     book = Book(Ground(world), frame, paper)
     claims = [(0, point, truth)]
-    while claims[-1] not in claims[:-1]:
+    stood = {}
+    while claims[-1] not in stood:
+        place = len(claims) - 1
+        stood[claims[-1]] = place
         leaned = book.leaned(book.rows[claims[-1]])
         if len(leaned) == 0:
             head = frame.things[claims[-1][0]][0]
             return (claims, ("fact",) if head == "fact" else ("none",))
-        place = len(claims) - 1
         pick = picks[place] if place < len(picks) else 0
         claims.append(leaned[pick % len(leaned)])
-    ring = claims[claims.index(claims[-1]):]
-    return (claims, ("ring", outermost_wished(frame, ring)))
+    return (claims, ("ring", outermost_wished(frame, claims[stood[claims[-1]]:])))
 
 
 def outermost_wished(frame, ring):
