@@ -153,6 +153,21 @@ class DeskTest(unittest.TestCase):
         self.refused(desk, f"mend 0 yes {sentence} : - : split ann 1,0", NoPaper)
         self.refused(desk, f"mend 0 no {sentence} : {answer[len('no : '):]} : split ann 1,0", NoChange)
 
+    def test_a_paper_that_stays_let_by_is_told_itself(self):
+        desk = self.desk()
+        sentence = "least x or fact a some on wish x"
+        # Greater ranks and more rows than an own answer has.
+        rows = ("4 1 yes 70 -; 1 0 yes 70 3; 3 0 yes 70 1; 0 0 yes - -; 1 1 yes 12 2; 2 1 yes 12 -; 2 0 no 0 -; 0 1 yes - -")
+        self.assertEqual(desk.say(f"check 0 yes {sentence} : {rows}"), "let by")
+        self.assertEqual(desk.say(f"mend 0 yes {sentence} : {rows} : move 2 0"), "yes : " + rows)
+        # What is kept stands there as it was, ranks and all; what is fresh has greater ones.
+        told = desk.say(f"mend 0 yes {sentence} : {rows} : move 0 2")
+        self.assertEqual(told, "yes : " + rows)
+        told = desk.say(f"mend 0 yes {sentence} : {rows} : move 0 1")
+        self.assertTrue(told.startswith("yes : "))
+        self.assertNotIn("4 1 yes 70 -", told)
+        self.assertEqual(desk.say(f"check 0 yes {sentence} : {told[len('yes : '):]}"), "let by")
+
     def test_small(self):
         desk = self.desk("points 4; fact a 0 2; move 0 1; move 1 2; move 2 3; move 3 0; hand ann 0,1,2,3")
         before = desk.say("world")

@@ -3,7 +3,8 @@
 import random
 import unittest
 
-from samples import (all_sets, nested, random_sentence, random_world, slow_holds, slow_seen, slow_walk)
+from samples import (all_sets, nested, random_sentence, random_world, slow_holds, slow_seen, slow_walk, winding_sentence,
+                     winding_world)
 from worldsay.judging import holds, room_world
 from worldsay.nodes import rooms_at, things_of
 from worldsay.worlds import is_world
@@ -106,6 +107,17 @@ class HoldsTest(unittest.TestCase):
             held = holds(world, sentence)
             self.assertEqual(held, tuple_of(slow_holds(world, sentence)), (world, sentence))
             self.assertEqual(sorted(held + holds(world, ("not", sentence))), list(range(len(world[1]))))
+
+    def test_random_binders_within_one_another(self):
+        chance = random.Random(34)
+        partly = 0
+        for count in range(2500):
+            world, sentence = winding_world(chance, chance.choice((2, 4, 6))), winding_sentence(chance)
+            sentence = ("not", sentence) if chance.random() < 0.3 else sentence
+            held = holds(world, sentence)
+            self.assertEqual(held, tuple_of(slow_holds(world, sentence)), (world, sentence))
+            partly += 0 < len(held) < len(world[1])
+        self.assertGreater(partly, 600)
 
     def test_great_worlds(self):
         chance = random.Random(32)

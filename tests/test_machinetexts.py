@@ -43,7 +43,7 @@ REFUSED = (
     ([BOX, "deed x"], (1, 1)), ([BOX, "deed box"], (1, 2)), ([BOX, "deed box k"], (1, 2)), ([BOX, "deed box n n"], (1, 3)),
     ([BOX, "deed num 1"], (1, 1)), ([BOX, "deed add"], (1, 2)), ([BOX, "deed add 1"], (1, 3)), ([BOX, "deed add 1 1"], None),
     ([BOX, "deed add 1 1 1"], (1, 4)), ([BOX, "deed pick 1 1"], (1, 4)), ([BOX, "deed pick 1 1 1"], None),
-    ([BOX, "deed less 1 n"], (1, 3)), ([BOX, "deed 1000"], (1, 1)), ([BOX, "deed -999"], None), ([BOX, "deed 007"], (1, 1)),
+    ([BOX, "deed less 1 n"], (1, 3)), ([BOX, "deed 1000"], (1, 1)), ([BOX, "deed -1000"], (1, 1)), ([BOX, "deed add 1 -1000"], (1, 3)), ([BOX, "deed -999"], None), ([BOX, "deed 007"], (1, 1)),
     ([BOX, "deed add -0 1"], (1, 2)), ([BOX, "deed add  1 1"], (1, 2)), ([BOX, "deed 1 "], (1, 2)), ([BOX, "deed "], (1, 1)),
     ([BOX, "deed 1", "hand ann"], (2, 0)), ([BOX, "deed 1", "box m 0 1 0"], (2, 0)), ([BOX, "deed 1", "lay"], (2, 1)),
     ([BOX, "deed 1", "lay n"], (2, 2)), ([BOX, "deed 1", "lay k 1"], (2, 1)), ([BOX, "deed 1", "lay n 1"], None),

@@ -86,6 +86,15 @@ class SameSaidTest(unittest.TestCase):
         self.assertFalse(self.look(there, ("and", A, ("not", A))))
         self.assertEqual(len(same_said(there, ("and", A, ("not", A)))[1][1]), 8)
 
+    def test_one_kind_alone_is_wanted(self):
+        # Each of these is parted from what never holds by a world of one kind of points alone.
+        never = ("and", A, ("not", A))
+        for bits in range(8):
+            one = [fact if bits >> place & 1 else ("not", fact) for place, fact in enumerate((A, B, C))]
+            alone = knows(("and", one[0], ("and", one[1], one[2])))
+            self.assertFalse(self.look(alone, never))
+            self.assertEqual(len(same_said(alone, never)[1][1]), 1)
+
     def test_no_hand(self):
         self.assertTrue(self.look(("and", A, B), ("not", ("or", ("not", A), ("not", B)))))
         self.assertFalse(self.look(("and", A, B), ("or", A, B)))

@@ -114,6 +114,19 @@ class RankedTest(unittest.TestCase):
             self.assertEqual({claim[1] for claim in ranks if claim[0] == 0 and claim[2]}, set(held))
             self.assertEqual(len(ranks), 24 * 58)
 
+    def test_hard_binders_round_one_another_in_a_long_world(self):
+        # Rings by the inner wishes, that never end, beside ways out by the outer ones.
+        many = 24
+        world = ((("a", (0,)), ("b", tuple(range(0, many, 3)))),
+                 tuple(tuple(sorted({max(0, point - 1), min(many - 1, point + 1)})) for point in range(many)), ())
+        p, s = ("wish", "p"), ("wish", "s")
+        inner = ("or", ("or", ("and", s, s), p), ("or", ("some", ("back",), p), ("or", A, ("and", s, ("every", ("on",), s)))))
+        for head in ("least", "most"):
+            sentence = (head, "p", (head, "q", (head, "r", (head, "s", inner))))
+            ranks = ranked(world, sentence)
+            self.assertEqual(len(ranks), many * (4 + 15))
+            self.assertLessEqual(max(max(told, default=0) for told in ranks.values()), many)
+
     def test_told_anew(self):
         world = ((("a", (0,)),), ((0,),), ())
         first = ranked(world, ("least", "x", ("or", A, X)))

@@ -98,8 +98,6 @@ def line_of(row):
     words = row.partition(" ")
     head = words[0]
     rest = words[2]
-    if words[1] == "":
-        raise NoLine()
     if head == "world":
         return ("keep", (), read_world(rows_in(rest)))
     if head == "machine":

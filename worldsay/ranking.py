@@ -110,7 +110,7 @@ class Staging:
         """Lays the ranks of the claims of a thing that come now."""
         ranks = tuple([self.stages[binder] for binder in self.frame.binders[number]])
         truth = self.truth_at(number)
-        fresh = mask & ~self.come[number]
+        fresh = mask & (self.judge.every_point ^ self.come[number])
         for point in range(fresh.bit_length()):
             if (fresh >> point) & 1:
                 self.ranks[(number, point, truth)] = ranks
