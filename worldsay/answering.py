@@ -19,8 +19,9 @@ def answered_by(ranking, point, kept):
         claim = waiting.pop()
         if claim not in rows:
             rows[claim] = row_of(ranking, claim, kept)
-            waiting.extend(come_to(ranking, rows[claim]))
-    shift = shift_behind([row for row in rows.values() if row[:3] in kept])
+            waiting.extend(claims_leaned(ranking, rows[claim]) + claims_beside(ranking, rows[claim]))
+    fresh = [row for row in rows.values() if row[:3] not in kept]
+    shift = max([shift_wanted(ranking, row, kept) for row in fresh], default=0)
     return (first[2], tuple([row if row[:3] in kept else shifted(ranking, row, shift) for row in rows.values()]))
 
 
@@ -31,13 +32,12 @@ def row_of(ranking, claim, kept):
     return claim + (ranking.ranks[claim], ranking.best_option(claim)[0])
 
 
-def come_to(ranking, row):
-    """The right claims that a row leans on, and those that show what its step leads to in its room."""
-    claims = [option[1] for option in ranking.options_of(row[:3]) if option[0] == row[4]][0]
-    return claims + shown_beside(ranking, row)
+def claims_leaned(ranking, row):
+    """The right claims that a row leans on, where all right claims have rows."""
+    return [option[1] for option in ranking.options_of(row[:3]) if option[0] == row[4]][0]
 
 
-def shown_beside(ranking, row):
+def claims_beside(ranking, row):
     """The right claims of what was shown to the hands of a row's step, at its point and where that may lead."""
     frame = ranking.frame
     thing = frame.things[row[0]]
@@ -55,9 +55,15 @@ def shown_beside(ranking, row):
     return claims
 
 
-def shift_behind(rows):
-    """By how much fresh ranks have to be greater, so that fresh rows may lean on these."""
-    return max([max(row[3], default=0) + 1 for row in rows], default=0)
+def shift_wanted(ranking, row, kept):
+    """By how much the hard ranks of all fresh rows have to be greater, so that this one may lean on kept ones."""
+    hard = ranking.frame.hard_binders(row[0], row[2])
+    if not any(hard):
+        return 0
+    # Where the first hard rank is greater, it doesn't matter what the others are.
+    place = hard.index(True)
+    ranks = [kept[claim][3] for claim in claims_leaned(ranking, row) if claim in kept]
+    return max([0] + [told[place] - row[3][place] + 1 for told in ranks if place < len(told)])
 
 
 def shifted(ranking, row, shift):
